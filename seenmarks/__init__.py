@@ -1,0 +1,1 @@
+"""Seenmarks: updates that are accepted only if what was read is unchanged."""

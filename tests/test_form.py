@@ -1,0 +1,125 @@
+"""The form of the code: the interface of the document, and the rules of LANGUAGE.md that are quickly checked."""
+
+import ast
+import importlib
+import inspect
+import pathlib
+import re
+import unittest
+
+PACKAGE = pathlib.Path(__file__).parent.parent / "seenmarks"
+
+BARRED_WORDS = {
+    "type", "typing", "typing_extensions", "enum", "Enum", "IntEnum", "StrEnum", "Flag", "IntFlag", "Generic",
+    "Protocol", "ABC", "ABCMeta", "namedtuple", "NamedTuple", "TypedDict", "TYPE_CHECKING", "abstractmethod",
+}
+BARRED_ANYWHERE = ["dataclass", "overload", "contextmanager"]
+BARRED_NAMES = {"register", "mro", "elements", "open", "input", "law", "version_info", "with_traceback", "add_note"}
+
+CALLS = {
+    ("fields", "Fields"): "(words)",
+    ("kinds", "Kind"): "(name, fields, *, single=False)",
+    ("kinds", "Schema"): "(kinds)",
+}
+METHODS = {
+    ("fields", "Fields", "words"): "(self)",
+    ("fields", "Fields", "meets"): "(self, other)",
+    ("fields", "Fields", "within"): "(self, other)",
+    ("kinds", "Kind", "fields"): "(self)",
+    ("kinds", "Schema", "names"): "(self)",
+    ("kinds", "Schema", "is_resource"): "(self, thing)",
+}
+SIGNS = {
+    ("fields", "Fields"): ["__or__", "__ror__", "__and__", "__rand__", "__sub__", "__rsub__", "__xor__", "__rxor__",
+                           "__len__", "__contains__", "__bool__", "__eq__"],
+    ("kinds", "Kind"): ["__eq__"],
+    ("kinds", "Schema"): ["__getitem__", "__contains__", "__len__", "__eq__"],
+}
+
+
+def sources():
+    return sorted(path for path in PACKAGE.rglob("*.py"))
+
+
+def trees():
+    return [(path.name, ast.parse(path.read_text("ascii"))) for path in sources()]
+
+
+def defined(module, name):
+    return vars(importlib.import_module("seenmarks." + module))[name]
+
+
+class Interface(unittest.TestCase):
+    def test_classes_and_functions_are_defined_in_their_files(self):
+        for (module, name), parameters in CALLS.items():
+            self.assertEqual(defined(module, name).__module__, "seenmarks." + module)
+            self.assertEqual(str(inspect.signature(defined(module, name))), parameters)
+
+    def test_methods_are_defined_in_their_classes(self):
+        for (module, name, method), parameters in METHODS.items():
+            self.assertEqual(str(inspect.signature(vars(defined(module, name))[method])), parameters)
+
+    def test_signs_are_defined_in_their_classes(self):
+        for (module, name), methods in SIGNS.items():
+            for method in methods:
+                self.assertIn(method, vars(defined(module, name)))
+
+
+class Language(unittest.TestCase):
+    def test_l1_and_l14_files(self):
+        for path in PACKAGE.rglob("*"):
+            if "__pycache__" not in path.parts:
+                self.assertRegex(path.name, r"^(__init__|[a-z][a-z0-9_]*)\.py$")
+
+    def test_l2_and_l16_imports(self):
+        for name, tree in trees():
+            for node in ast.walk(tree):
+                self.assertNotIsInstance(node, ast.Import, name)
+                if isinstance(node, ast.ImportFrom):
+                    self.assertRegex(node.module, r"^seenmarks\.[a-z]+$")
+                    for alias in node.names:
+                        value = defined(node.module.split(".")[1], alias.name)
+                        self.assertEqual(getattr(value, "__module__", node.module), node.module)
+
+    def test_l10_size(self):
+        for path in sources():
+            lines = path.read_text("ascii").split("\n")
+            self.assertLessEqual(len(lines), 400, path.name)
+            self.assertLessEqual(max(map(len, lines)), 120, path.name)
+        for name, tree in trees():
+            for node in ast.walk(tree):
+                if isinstance(node, ast.FunctionDef):
+                    self.assertLessEqual(node.end_lineno - node.lineno + 1, 40, (name, node.name))
+
+    def test_l14_characters(self):
+        for path in sources():
+            self.assertRegex(path.read_text("utf-8"), r"\A[ -~\n]*\Z")
+
+    def test_l17_words(self):
+        for path in sources():
+            text = path.read_text("ascii")
+            self.assertEqual(BARRED_WORDS & set(re.findall(r"[A-Za-z0-9_]+", text)), set(), path.name)
+            self.assertEqual([word for word in BARRED_ANYWHERE if word in text], [], path.name)
+
+    def test_l12_and_l17_names(self):
+        for name, tree in trees():
+            for node in ast.walk(tree):
+                for part in ["id", "attr", "arg", "name"]:
+                    word = getattr(node, part, None)
+                    if isinstance(word, str):
+                        self.assertRegex(word, r"^([A-Za-z]|__[a-z]+__$)", name)
+                        self.assertNotIn(word, BARRED_NAMES, name)
+
+    def test_l18_methods_and_attributes_have_other_names(self):
+        methods, attributes = set(), set()
+        for name, tree in trees():
+            for node in ast.walk(tree):
+                if isinstance(node, ast.ClassDef):
+                    methods |= {row.name for row in node.body if isinstance(row, ast.FunctionDef)}
+                if isinstance(node, ast.Attribute) and isinstance(node.ctx, ast.Store):
+                    attributes.add(node.attr)
+        self.assertEqual(methods & attributes, set())
+
+
+if __name__ == "__main__":
+    unittest.main()
