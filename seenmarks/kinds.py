@@ -1,6 +1,6 @@
 """Kinds of resources, and schemas, which are lists of kinds."""
 
-from seenmarks.checks import is_list, is_natural, is_word
+from seenmarks.checks import is_list, is_resource_pair, is_word
 from seenmarks.errors import BadField, BadKind, BadWord, UnknownKind
 from seenmarks.fields import Fields
 
@@ -65,12 +65,10 @@ class Schema:
 
     def is_resource(self, thing):
         """Tell whether a thing is a resource of a kind of this schema."""
-        if not is_list(thing) or len(thing) != 2:
+        if not is_resource_pair(thing):
             return False
         name, number = thing
-        if name not in self or not is_natural(number):
-            return False
-        return number == 0 or not self[name].single
+        return name in self and (number == 0 or not self[name].single)
 
     def __len__(self):
         return len(self.kinds)

@@ -1,8 +1,11 @@
 """Objects that several tests pass."""
 
+from seenmarks.drafts import Draft
 from seenmarks.errors import BadField
 from seenmarks.fields import Fields
 from seenmarks.kinds import Kind, Schema
+from seenmarks.servers import Server
+from seenmarks.tags import Tag
 
 
 def account():
@@ -17,10 +20,24 @@ def bank():
     return Schema([account(), total()])
 
 
+def shop():
+    """A schema whose kinds have a field in common, and one with as many fields as a kind may have."""
+    return Schema([Kind("item", ["price", "name", "stock", "color"]), Kind("order", ["price", "paid"]),
+                   Kind("till", ["sum"], single=True)])
+
+
+def tag():
+    return Tag(("account", 3), ["limit", "owner"], 17)
+
+
+def package_objects():
+    """Objects of the classes of the package, but for Fields, which is accepted where words are."""
+    return [account(), bank(), BadField(0), tag(), Draft(), Server(bank()), Server(bank()).read(("account", 0))]
+
+
 def no_lists():
     """Objects that are neither a list nor a tuple, and no Fields object."""
-    return ["", "abc", "a", None, True, False, 0, 1, -1, {}, {"a": 1}, {0: "a"},
-            account(), bank(), BadField(0)]
+    return ["", "abc", "a", None, True, False, 0, 1, -1, {}, {"a": 1}, {0: "a"}, *package_objects()]
 
 
 def no_words():
@@ -28,7 +45,21 @@ def no_words():
     return [None, True, False, 0, 1, -7, 10 ** 39, "", "ninewords", "a" * 9, "Limit", "liMit", "A",
             "li mit", " limit", "limit ", "limit\n", "\n", "a1", "1", "a-b", "a_b", "~", "a,b", "{", "`",
             [], ["a"], (), ("a",), {}, {"a": "a"}, [["a"]],
-            Fields(["a"]), Fields([]), account(), bank(), BadField(0)]
+            Fields(["a"]), Fields([]), *package_objects()]
+
+
+def no_integers():
+    """Objects that are no integers."""
+    return [None, True, False, "", "0", "1", "a", [], [0], (), (1,), {}, {0: 1}, Fields([]), *package_objects()]
+
+
+def no_resource_pairs():
+    """Objects that are not a pair of a word and an integer from 0 on."""
+    wrong_lengths = [(), ("account",), (0,), ("account", 0, 0), ("account", 0, None), (("account", 0),)]
+    wrong_names = [(name, 0) for name in no_words()]
+    wrong_numbers = [("account", number) for number in [-1, -2, -10 ** 39, *no_integers()]]
+    pairs = [*wrong_lengths, *wrong_names, *wrong_numbers, (0, "account"), (("account", 0), "limit")]
+    return [*pairs, *[list(pair) for pair in pairs], *no_lists(), "account 0", {"account": 0}, Fields(["account"])]
 
 
 def any_objects():

@@ -20,6 +20,9 @@ CALLS = {
     ("fields", "Fields"): "(words)",
     ("kinds", "Kind"): "(name, fields, *, single=False)",
     ("kinds", "Schema"): "(kinds)",
+    ("tags", "Tag"): "(resource, cover, count)",
+    ("drafts", "Draft"): "()",
+    ("servers", "Server"): "(schema)",
 }
 METHODS = {
     ("fields", "Fields", "words"): "(self)",
@@ -28,12 +31,31 @@ METHODS = {
     ("kinds", "Kind", "fields"): "(self)",
     ("kinds", "Schema", "names"): "(self)",
     ("kinds", "Schema", "is_resource"): "(self, thing)",
+    ("tags", "Tag", "cover"): "(self)",
+    ("tags", "Tag", "text"): "(self)",
+    ("tags", "Tag", "of_text"): "(text)",
+    ("drafts", "Draft", "require"): "(self, tag)",
+    ("drafts", "Draft", "drop"): "(self, resource, field)",
+    ("drafts", "Draft", "tags"): "(self)",
+    ("drafts", "Draft", "writes"): "(self)",
+    ("servers", "Copy", "tag"): "(self, cover)",
+    ("servers", "Server", "read"): "(self, resource)",
+    ("servers", "Server", "latest"): "(self, resource)",
+    ("servers", "Server", "handle"): "(self, draft)",
+    ("servers", "Server", "log"): "(self)",
+    ("servers", "Server", "history"): "(self)",
+    ("servers", "Server", "changes"): "(self, resource)",
 }
+STATIC_METHODS = [("tags", "Tag", "of_text")]
+PROPERTIES = [("servers", "Server", "handled")]
 SIGNS = {
     ("fields", "Fields"): ["__or__", "__ror__", "__and__", "__rand__", "__sub__", "__rsub__", "__xor__", "__rxor__",
                            "__len__", "__contains__", "__bool__", "__eq__"],
     ("kinds", "Kind"): ["__eq__"],
     ("kinds", "Schema"): ["__getitem__", "__contains__", "__len__", "__eq__"],
+    ("tags", "Tag"): ["__eq__"],
+    ("drafts", "Draft"): ["__getitem__", "__setitem__", "__contains__", "__len__"],
+    ("servers", "Copy"): ["__getitem__", "__contains__"],
 }
 
 
@@ -58,6 +80,12 @@ class Interface(unittest.TestCase):
     def test_methods_are_defined_in_their_classes(self):
         for (module, name, method), parameters in METHODS.items():
             self.assertEqual(str(inspect.signature(vars(defined(module, name))[method])), parameters)
+
+    def test_static_methods_and_properties(self):
+        for module, name, method in STATIC_METHODS:
+            self.assertIs(type(vars(defined(module, name))[method]), staticmethod)
+        for module, name, method in PROPERTIES:
+            self.assertIs(type(vars(defined(module, name))[method]), property)
 
     def test_signs_are_defined_in_their_classes(self):
         for (module, name), methods in SIGNS.items():
