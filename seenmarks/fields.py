@@ -16,6 +16,11 @@ def ascending_words(words):
     return sorted(set(words))
 
 
+def is_field_set(thing):
+    """Tell whether a thing is a Fields object or a list of words."""
+    return isinstance(thing, Fields) or (is_list(thing) and all([is_word(word) for word in thing]))
+
+
 class Fields:
     """A set of fields, which never changes."""
 

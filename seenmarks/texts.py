@@ -26,3 +26,9 @@ def is_words_text(text):
     """Tell whether a text is one that `words_text` returns: the words ascend, and none occurs twice."""
     words = words_of_text(text)
     return all([is_word(word) for word in words]) and words == sorted(set(words))
+
+
+def split_lines(text):
+    """Return the list of the lines that end with a line feed, and what stands behind the last line feed."""
+    *lines, rest = text.split("\n")
+    return lines, rest

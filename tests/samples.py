@@ -1,11 +1,16 @@
 """Objects that several tests pass."""
 
+import itertools
+
+from seenmarks.caches import Cache
+from seenmarks.catalogs import Catalog
 from seenmarks.drafts import Draft
 from seenmarks.errors import BadField
 from seenmarks.fields import Fields
 from seenmarks.kinds import Kind, Schema
 from seenmarks.servers import Server
 from seenmarks.tags import Tag
+from seenmarks.templates import Template
 
 
 def account():
@@ -30,9 +35,25 @@ def tag():
     return Tag(("account", 3), ["limit", "owner"], 17)
 
 
+def add():
+    return Template("add", [("account", ["limit"], [], ["limit"])])
+
+
+def move():
+    """A template of two accounts and the total, each with another cover."""
+    return Template("move", [("account", ["limit", "owner"], ["limit"], ["limit"]),
+                             ("account", ["limit"], ["owner", "limit"], ["owner", "limit"]),
+                             ("total", ["sum"], [], ["sum"])])
+
+
+def bank_catalog():
+    return Catalog(bank(), [add(), move()])
+
+
 def package_objects():
     """Objects of the classes of the package, but for Fields, which is accepted where words are."""
-    return [account(), bank(), BadField(0), tag(), Draft(), Server(bank()), Server(bank()).read(("account", 0))]
+    return [account(), bank(), BadField(0), tag(), Draft(), Server(bank()), Server(bank()).read(("account", 0)),
+            Cache(Server(bank())), add(), bank_catalog()]
 
 
 def no_lists():
@@ -67,3 +88,45 @@ def any_objects():
     return no_words() + ["a", "limit", "account", "abcdefgh", ["limit", "owner"], ("limit", "owner"),
                          ("account", 0), ["account", 0], [("account", [0, {"a": None}])], (None, True),
                          {"limit": True, 1: [2]}, total(), [account()], (bank(),)]
+
+
+def draft_of(writes, tags=(), label=None):
+    draft = Draft()
+    draft.label = label
+    for resource, field, value in writes:
+        draft[resource, field] = value
+    for tag in tags:
+        draft.require(tag)
+    return draft
+
+
+def covers_of(words):
+    """All lists of these words."""
+    return [list(some) for many in range(len(words) + 1) for some in itertools.combinations(words, many)]
+
+
+def deep_lists(thing):
+    """The thing with a list for each tuple in it, at every depth."""
+    return [deep_lists(item) for item in thing] if isinstance(thing, (list, tuple)) else thing
+
+
+def deep_tuples(thing):
+    """The thing with a tuple for each list in it, at every depth."""
+    return tuple(deep_tuples(item) for item in thing) if isinstance(thing, (list, tuple)) else thing
+
+
+def form_of(thing):
+    """What a thing consists of: for lists and tuples this tells them apart, at every depth."""
+    if isinstance(thing, (list, tuple)):
+        return (type(thing).__name__, *[form_of(item) for item in thing])
+    return (type(thing).__name__, thing)
+
+
+def spoil(thing):
+    """Change all lists in the thing, at every depth."""
+    if isinstance(thing, (list, tuple)):
+        for item in thing:
+            spoil(item)
+    if isinstance(thing, list):
+        thing.append("spoilt")
+        thing.reverse()

@@ -1,6 +1,7 @@
 """The form of the code: the interface of the document, and the rules of LANGUAGE.md that are quickly checked."""
 
 import ast
+import builtins
 import importlib
 import inspect
 import pathlib
@@ -16,6 +17,22 @@ BARRED_WORDS = {
 BARRED_ANYWHERE = ["dataclass", "overload", "contextmanager"]
 BARRED_NAMES = {"register", "mro", "elements", "open", "input", "law", "version_info", "with_traceback", "add_note"}
 
+BUILTINS = {
+    "len", "range", "enumerate", "zip", "min", "max", "sum", "abs", "sorted", "reversed", "int", "str", "bool", "bytes",
+    "list", "tuple", "dict", "set", "isinstance", "ord", "repr", "any", "all", "divmod", "ValueError", "TypeError",
+    "KeyError", "staticmethod", "property",
+}
+METHODS_OF_BUILTINS = {
+    "append", "clear", "copy", "count", "endswith", "extend", "find", "get", "index", "insert", "isalnum", "isalpha",
+    "isdigit", "islower", "isspace", "isupper", "items", "join", "keys", "ljust", "lower", "lstrip", "partition", "pop",
+    "remove", "replace", "reverse", "rfind", "rjust", "rpartition", "rsplit", "rstrip", "setdefault", "split",
+    "splitlines", "startswith", "strip", "update", "upper", "values", "zfill", "bit_length", "isascii", "add", "discard",
+}
+BARRED_NODES = (
+    ast.AsyncFunctionDef, ast.Await, ast.Global, ast.GeneratorExp, ast.Lambda, ast.NamedExpr, ast.Import, ast.Div,
+    ast.AnnAssign, ast.Match,
+)
+
 CALLS = {
     ("fields", "Fields"): "(words)",
     ("kinds", "Kind"): "(name, fields, *, single=False)",
@@ -23,6 +40,10 @@ CALLS = {
     ("tags", "Tag"): "(resource, cover, count)",
     ("drafts", "Draft"): "()",
     ("servers", "Server"): "(schema)",
+    ("caches", "Cache"): "(source, *, drops=True)",
+    ("templates", "Template"): "(name, variables)",
+    ("templates", "attempt"): "(source, template, resources, compute, *, tries=3)",
+    ("catalogs", "Catalog"): "(schema, templates)",
 }
 METHODS = {
     ("fields", "Fields", "words"): "(self)",
@@ -45,8 +66,21 @@ METHODS = {
     ("servers", "Server", "log"): "(self)",
     ("servers", "Server", "history"): "(self)",
     ("servers", "Server", "changes"): "(self, resource)",
+    ("caches", "Cache", "read"): "(self, resource)",
+    ("caches", "Cache", "latest"): "(self, resource)",
+    ("caches", "Cache", "stored"): "(self)",
+    ("caches", "Cache", "forget"): "(self, resource)",
+    ("caches", "Cache", "handle"): "(self, draft)",
+    ("caches", "Cache", "offline"): "(self, work, *things)",
+    ("caches", "Cache", "is_offline"): "(self)",
+    ("templates", "Template", "variables"): "(self)",
+    ("templates", "Template", "__call__"): "(self, copies, values)",
+    ("catalogs", "Catalog", "names"): "(self)",
+    ("catalogs", "Catalog", "with_cover"): "(self, name, variable, cover)",
+    ("catalogs", "Catalog", "text"): "(self)",
+    ("catalogs", "Catalog", "of_text"): "(text)",
 }
-STATIC_METHODS = [("tags", "Tag", "of_text")]
+STATIC_METHODS = [("tags", "Tag", "of_text"), ("catalogs", "Catalog", "of_text")]
 PROPERTIES = [("servers", "Server", "handled")]
 SIGNS = {
     ("fields", "Fields"): ["__or__", "__ror__", "__and__", "__rand__", "__sub__", "__rsub__", "__xor__", "__rxor__",
@@ -56,6 +90,8 @@ SIGNS = {
     ("tags", "Tag"): ["__eq__"],
     ("drafts", "Draft"): ["__getitem__", "__setitem__", "__contains__", "__len__"],
     ("servers", "Copy"): ["__getitem__", "__contains__"],
+    ("templates", "Template"): ["__eq__"],
+    ("catalogs", "Catalog"): ["__getitem__", "__contains__", "__len__", "__eq__"],
 }
 
 
@@ -137,6 +173,73 @@ class Language(unittest.TestCase):
                     if isinstance(word, str):
                         self.assertRegex(word, r"^([A-Za-z]|__[a-z]+__$)", name)
                         self.assertNotIn(word, BARRED_NAMES, name)
+
+    def test_l7_and_l6_what_this_package_does_without(self):
+        for name, tree in trees():
+            for node in ast.walk(tree):
+                self.assertNotIsInstance(node, BARRED_NODES, name)
+                if isinstance(node, ast.Constant):
+                    self.assertNotIsInstance(node.value, (float, complex, bytes), name)
+                if isinstance(node, ast.Constant) and isinstance(node.value, str):
+                    self.assertNotIn("%", node.value, name)
+
+    def test_l8_builtins_are_called_and_keep_their_meaning(self):
+        for name, tree in trees():
+            nodes = list(ast.walk(tree))
+            for node in nodes:
+                if isinstance(node, ast.Name) and node.id in vars(builtins):
+                    self.assertIsInstance(node.ctx, ast.Load, (name, node.id))
+                    self.assertIn(node.id, BUILTINS, name)
+                if isinstance(node, (ast.arg, ast.FunctionDef, ast.ClassDef)):
+                    self.assertNotIn(getattr(node, "arg", None) or node.name, vars(builtins), name)
+
+    def test_l15_names_of_classes_and_imports_have_one_meaning(self):
+        for name, tree in trees():
+            taken = [alias.name for row in tree.body if isinstance(row, ast.ImportFrom) for alias in row.names]
+            taken += [row.name for row in tree.body if isinstance(row, (ast.ClassDef, ast.FunctionDef))]
+            self.assertEqual(len(set(taken)), len(taken), name)
+            for node in ast.walk(tree):
+                if isinstance(node, ast.Name) and isinstance(node.ctx, ast.Store):
+                    self.assertNotIn(node.id, taken, name)
+                if isinstance(node, ast.arg):
+                    self.assertNotIn(node.arg, taken, name)
+
+    def test_l16_no_circles_of_imports(self):
+        imports = {name: {node.module.split(".")[1] + ".py" for node in tree.body if isinstance(node, ast.ImportFrom)}
+                   for name, tree in trees()}
+        while imports:
+            free = [name for name in imports if not imports[name] & set(imports)]
+            self.assertTrue(free, imports)
+            for name in free:
+                del imports[name]
+
+    def test_l20_is(self):
+        for name, tree in trees():
+            for node in ast.walk(tree):
+                if isinstance(node, ast.Compare):
+                    for sign, value in zip(node.ops, node.comparators):
+                        if isinstance(sign, (ast.Is, ast.IsNot)):
+                            self.assertIn(getattr(value, "value", 0), [None, True, False], name)
+
+    def test_l25_methods(self):
+        own = {node.name for name, tree in trees() for node in ast.walk(tree) if isinstance(node, ast.FunctionDef)}
+        for name, tree in trees():
+            for node in ast.walk(tree):
+                if isinstance(node, ast.Call) and isinstance(node.func, ast.Attribute):
+                    self.assertIn(node.func.attr, METHODS_OF_BUILTINS | own, name)
+
+    def test_l18_attributes_that_are_read_are_assigned(self):
+        stored, read = set(), set()
+        for name, tree in trees():
+            called = {id(node.func) for node in ast.walk(tree) if isinstance(node, ast.Call)}
+            for node in ast.walk(tree):
+                if isinstance(node, ast.FunctionDef):
+                    stored.add(node.name)
+                if isinstance(node, ast.Attribute) and isinstance(node.ctx, ast.Store):
+                    stored.add(node.attr)
+                if isinstance(node, ast.Attribute) and isinstance(node.ctx, ast.Load) and id(node) not in called:
+                    read.add(node.attr)
+        self.assertLessEqual(read, stored)
 
     def test_l18_methods_and_attributes_have_other_names(self):
         methods, attributes = set(), set()

@@ -11,7 +11,7 @@ from seenmarks.fields import Fields
 from seenmarks.kinds import Kind, Schema
 from seenmarks.servers import Copy, Server
 from seenmarks.tags import Tag
-from tests.samples import any_objects, bank, no_lists, no_resource_pairs, no_words, shop
+from tests.samples import any_objects, bank, covers_of, draft_of, no_lists, no_resource_pairs, no_words, shop
 
 ACCOUNT = ("account", 3)
 OTHER = ("account", 4)
@@ -23,21 +23,6 @@ LABELS = [("move", (ACCOUNT,), (0,)), ("add", (ACCOUNT, TOTAL), (1, 0)), ("add",
 def no_resources():
     """Objects that are no resources of the bank."""
     return [*no_resource_pairs(), *STRANGERS]
-
-
-def draft_of(writes, tags=(), label=None):
-    draft = Draft()
-    draft.label = label
-    for resource, field, value in writes:
-        draft[resource, field] = value
-    for tag in tags:
-        draft.require(tag)
-    return draft
-
-
-def covers_of(words):
-    """All lists of these words."""
-    return [list(some) for many in range(len(words) + 1) for some in itertools.combinations(words, many)]
 
 
 class ServerCase(unittest.TestCase):
