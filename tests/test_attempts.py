@@ -7,6 +7,7 @@ from seenmarks.caches import Cache
 from seenmarks.errors import (BadCopies, BadCount, BadResource, BadValues, Offline, Rejected, SeenError, UnknownField)
 from seenmarks.servers import Server
 from seenmarks.templates import Template, attempt
+from tests.cases import ErrorCase
 from tests.samples import any_objects, bank, draft_of, no_integers, spoil
 
 ONE = ("account", 1)
@@ -51,7 +52,7 @@ class Unlucky(Exception):
     """An error of the caller."""
 
 
-class AttemptCase(unittest.TestCase):
+class AttemptCase(ErrorCase):
     def setUp(self):
         self.server = Server(bank())
         self.seen = []
@@ -82,12 +83,6 @@ class AttemptCase(unittest.TestCase):
             call()
         self.assertEqual(context.exception.number, number)
         self.assertEqual([tag.resource for tag in context.exception.stale], places)
-
-    def check_error(self, error, thing, call):
-        with self.assertRaises(error) as context:
-            call()
-        for held in vars(context.exception).values():
-            self.assertIs(held, thing)
 
 
 class Accepted(AttemptCase):

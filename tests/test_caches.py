@@ -7,6 +7,7 @@ import unittest
 from seenmarks.caches import Cache
 from seenmarks.errors import BadFlag, BadResource, Offline, Rejected, SeenError, UnknownField
 from seenmarks.servers import Server
+from tests.cases import ErrorCase
 from tests.samples import any_objects, bank, draft_of, no_resource_pairs
 
 ACCOUNT = ("account", 3)
@@ -16,7 +17,7 @@ PLACES = [ACCOUNT, OTHER, TOTAL]
 STRANGERS = [("total", 1), ["total", 10 ** 39], ("accoun", 0), ["limit", 0]]
 
 
-class CacheCase(unittest.TestCase):
+class CacheCase(ErrorCase):
     def setUp(self):
         self.server = Server(bank())
 
@@ -30,14 +31,6 @@ class CacheCase(unittest.TestCase):
     def write(self, resource, value, source=None):
         field = "sum" if resource == TOTAL else "limit"
         return (source or self.server).handle(draft_of([(resource, field, value)]))
-
-    def check_error(self, error, thing, call):
-        """The call raises this error of exactly this object."""
-        with self.assertRaises(error) as context:
-            call()
-        self.assertIs(type(context.exception), error)
-        for held in vars(context.exception).values():
-            self.assertIs(held, thing)
 
     def check_stored(self, cache, expected):
         """The cache has just these copies, by their resources: an order of the dict does not count."""

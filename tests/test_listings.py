@@ -155,7 +155,8 @@ class BackAndForth(TextCase):
 
     def test_covers_that_were_changed(self):
         catalog = bank_catalog().with_cover("move", 1, []).with_cover("move", 2, ["sum"])
-        text = BANK.replace("reads limit cover limit,owner", "reads limit cover -").replace("sum cover -", "sum cover sum")
+        text = BANK.replace("reads limit cover limit,owner", "reads limit cover -")
+        text = text.replace("sum cover -", "sum cover sum")
         self.assertEqual(catalog.text(), text)
         self.assertTrue(Catalog.of_text(text) == catalog)
 
@@ -242,7 +243,8 @@ class WrongTexts(TextCase):
     def test_other_words_in_the_place_of_those_that_are_due(self):
         for old, new, line in [("kind account", "sort account", 1), ("single total", "Single total", 2),
                                ("template add", "templat add", 3), ("reads limit cover -", "read limit cover -", 4),
-                               ("reads limit cover -", "reads limit covers -", 4), ("- writes limit", "- write limit", 4),
+                               ("reads limit cover -", "reads limit covers -", 4),
+                               ("- writes limit", "- write limit", 4),
                                ("reads limit cover -", "cover limit reads -", 4), ("kind account ", "kind account", 1),
                                ("kind account ", "kind account  ", 1), ("template add", " template add", 3),
                                ("template add", "template add ", 3), ("template add", "template\nadd", 3),
