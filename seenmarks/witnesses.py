@@ -1,6 +1,6 @@
 """Histories that show something: a chain of updates, of which the last one reads at the pivot resource."""
 
-MOST_VARIABLES = 3
+from seenmarks.templates import MOST_VARIABLES
 
 
 def resource_of(catalog, index, pair):
